@@ -1,0 +1,53 @@
+"""The section "The interface": names, arguments, and that each stands in its own file."""
+
+import importlib
+import inspect
+import os
+import unittest
+
+INTERFACE = {
+    "errors": "IsHome(version) NoCommand() NoPiece(piece) NoText(line) NotEnd(version) NotMoved(piece) "
+              "NotNeighbour(version) NotTaken(word,things) Refused(index,reason) Wrong(place)",
+    "forms": "is_integer(thing) is_name(thing) is_sort(thing) is_way(thing) is_expression(thing) is_condition(thing) "
+             "is_table(thing) is_schema(thing) is_row(schema,table,thing) is_database(schema,thing) "
+             "is_expression_at(schema,table,thing) is_condition_at(schema,table,thing) is_query(schema,thing) "
+             "is_statement(schema,thing) is_transaction(schema,thing) fits_sort(sort,thing) fits_row(schema,table,row)",
+    "ways": "tables_of(schema) table_of(schema,table) columns_of(schema,table) sort_of(schema,table,column) "
+            "refs_to(schema,table) columns_in(thing) with_table(schema,table,told) without_table(schema,table) "
+            "index_of(schema,table,column) parts_many(thing) led(way,x) has_column(schema,table,column) "
+            "put_in(thing,columns,key) both(one,other)",
+    "words": "is_barred(word) integer_in(word) lines_of(text)",
+    "changes": "is_change(thing) child_by(schema,change) named_tables(change) named_below(change)",
+    "reader": "read_schema(text) read_transaction(schema,text) read_edges(text) read_database(schema,text)",
+    "shower": "show_schema(schema) show_transaction(transaction) show_edges(edges) show_database(schema,database) "
+              "show_condition(condition) show_expression(expression) show_change(change) show_answer(answer)",
+    "worths": "worth(schema,database,table,key,expression) worth_in(columns,key,row,expression) "
+              "holds(schema,database,table,key,condition) holds_in(columns,key,row,condition)",
+    "databases": "empty(schema) copied(database) with_row(database,table,key,row) without_row(database,table,key) "
+                 "with_item(schema,database,table,key,column,value) exchanged(one,other,table,key) "
+                 "without_part(database,keys) part_of(database,keys) unlike_keys(one,other) rows_many(database) "
+                 "keys_of(database,table) item(schema,database,table,key,column) broken(schema,database) "
+                 "is_right(schema,database)",
+}
+
+
+class Interface(unittest.TestCase):
+
+    def test_names_and_arguments(self):
+        for name, listed in INTERFACE.items():
+            module = importlib.import_module(f"everyversion.{name}")
+            for told in listed.split():
+                word, arguments = told.rstrip(")").split("(")
+                thing = getattr(module, word)
+                self.assertEqual(thing.__module__, module.__name__)
+                parameters = inspect.signature(thing).parameters.values()
+                self.assertEqual(",".join(one.name for one in parameters), arguments, told)
+                self.assertTrue(all(one.default is one.empty for one in parameters), told)
+
+    def test_init_is_empty(self):
+        folder = os.path.dirname(importlib.import_module("everyversion.errors").__file__)
+        self.assertEqual(os.path.getsize(os.path.join(folder, "__init__.py")), 0)
+
+
+if __name__ == "__main__":
+    unittest.main()
