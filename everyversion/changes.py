@@ -176,9 +176,14 @@ def _names_none(check, columns):
     return not any([column in columns for column in columns_in(check)])
 
 
+def falls_apart(check, columns):
+    """Whether a check is an "and" of one that names none of some columns, and of one that names just some of them."""
+    return check[0] == "and" and _names_none(check[1], columns) and _names_just(check[2], columns)
+
+
 def _parted_check(check, columns):
     """Return the check that stays, and the one that goes with some columns."""
-    if check[0] == "and" and _names_none(check[1], columns) and _names_just(check[2], columns):
+    if falls_apart(check, columns):
         return (check[1], check[2])
     if _names_just(check, columns):
         return (ALWAYS, check)

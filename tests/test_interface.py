@@ -28,6 +28,14 @@ INTERFACE = {
                  "without_part(database,keys) part_of(database,keys) unlike_keys(one,other) rows_many(database) "
                  "keys_of(database,table) item(schema,database,table,key,column) broken(schema,database) "
                  "is_right(schema,database)",
+    "queries": "asked(schema,database,query) is_met(schema,database,statement)",
+    "running": "run(schema,database,transaction) step_by(schema,database,statement) would_run(schema,database,transaction) "
+               "written_tables(transaction) tables_named(schema,transaction)",
+    "explaining": "turned_into(schema,one,other) put_behind(one,other)",
+    "refusals": "refusal(schema,change) is_reason(schema,change,thing) child_schema(schema,change) "
+                "back_change(schema,change)",
+    "sides": "wide_side(schema,change) narrowed(schema,change,wide) full(schema,change,narrow,hidden) "
+             "hidden(schema,change,wide) agree(schema,change,parent,child)",
 }
 
 

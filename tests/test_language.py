@@ -8,14 +8,17 @@ import unittest
 FOLDER = os.path.join(os.path.dirname(os.path.dirname(os.path.abspath(__file__))), "everyversion")
 
 # The modules in the order in which each may use those above it.
-ORDER = ["errors", "grammar", "forms", "ways", "words", "changes", "terms", "reader", "shower", "worths", "databases"]
+ORDER = ["errors", "grammar", "forms", "ways", "words", "changes", "terms", "reader", "shower", "worths", "databases",
+         "queries", "running", "explaining", "bothways", "hindrances", "refusals", "leading", "sides"]
 
 BUILTINS = """len range enumerate zip min max sum abs sorted reversed int str bool list tuple dict set isinstance any all
     ValueError""".split()
 METHODS = """append count endswith extend get index items join pop removeprefix partition split startswith values
     strip""".split()
 STATEMENTS = (ast.Assign, ast.AugAssign, ast.If, ast.While, ast.For, ast.Return, ast.Raise, ast.Expr, ast.Pass,
-              ast.FunctionDef, ast.ClassDef, ast.ImportFrom)
+              ast.FunctionDef, ast.ClassDef, ast.ImportFrom, ast.Try)
+# What stands in a value at module level.
+PLAIN = (ast.Constant, ast.Tuple, ast.Dict, ast.Name, ast.Load, ast.BinOp, ast.Mult, ast.Pow)
 BARRED = """register mro elements open input law version_info with_traceback add_note""".split()
 BARRED_WORDS = """type typing enum Enum Generic Protocol ABC namedtuple dataclass overload contextmanager""".split()
 
@@ -75,7 +78,7 @@ class Language(unittest.TestCase):
                 if isinstance(node, ast.Assign):
                     self.assertEqual([type(target) for target in node.targets], [ast.Name])
                     for part in ast.walk(node.value):
-                        self.assertIsInstance(part, (ast.Constant, ast.Tuple, ast.Dict, ast.Name, ast.Load), (name, node.lineno))
+                        self.assertIsInstance(part, PLAIN, (name, node.lineno))
                     for part in list(ast.walk(node.value))[1:]:
                         self.assertNotIsInstance(part, ast.Dict)
 
@@ -112,15 +115,17 @@ class Language(unittest.TestCase):
     def test_names(self):
         for name, _, tree in modules():
             top = [node.name for node in tree.body if isinstance(node, (ast.FunctionDef, ast.ClassDef))]
+            classes = [node.name for node in tree.body if isinstance(node, ast.ClassDef)]
             imported = [alias.name for node in tree.body if isinstance(node, ast.ImportFrom) for alias in node.names]
             constants = [node.targets[0].id for node in tree.body if isinstance(node, ast.Assign)]
             self.assertEqual(len(set(top + imported + constants)), len(top + imported + constants), name)
             for word in assigned(tree):
                 # doctest gives builtins an "_".
-                self.assertTrue(word == "_" or word not in dir(builtins) + BARRED + top + imported, (name, word))
+                self.assertTrue(word == "_" or word not in dir(builtins) + BARRED + classes + imported, (name, word))
             for word in top:
                 self.assertNotIn(word, dir(builtins) + BARRED, name)
-            local = assigned(tree) + top + imported
+            caught = [node.name for node in ast.walk(tree) if isinstance(node, ast.ExceptHandler)]
+            local = assigned(tree) + top + imported + caught
             for node in ast.walk(tree):
                 if isinstance(node, ast.Name) and isinstance(node.ctx, ast.Load) and node.id not in local:
                     self.assertIn(node.id, BUILTINS, (name, node.lineno))
@@ -129,6 +134,11 @@ class Language(unittest.TestCase):
                     self.assertFalse(word.startswith("__"), (name, node.lineno))
             for word in imported:
                 self.assertIn(word, [node.id for node in ast.walk(tree) if isinstance(node, ast.Name)], (name, "not used"))
+
+    def test_handlers_name_own_errors(self):
+        for name, node in self.nodes(ast.Try):
+            self.assertEqual((len(node.handlers), node.orelse, node.finalbody), (1, [], []), (name, node.lineno))
+            self.assertIn(node.handlers[0].type.id, ("Refused",), (name, node.lineno))
 
     def test_sets_stand_in_sorted(self):
         for name, _, tree in modules():
