@@ -14,16 +14,17 @@ def is_parent_wide(schema, change):
     return change[0] in ("drop column", "drop table")
 
 
-def side_schema(schema, change, side):
-    """Return the SCHEMA of a side, "parent" or "child"."""
-    return schema if side == "parent" else child_by(schema, change)
+class Step:
+    """A CHANGE told from the narrow side to the WIDE one: it itself, or its contrary if the PARENT is the WIDE one."""
 
-
-def wide_below(schema, change):
-    """Return the tuple (PARENT, CHANGE) of a CHANGE, or of its contrary, the CHILD of which is the WIDE side."""
-    if is_parent_wide(schema, change):
-        return (child_by(schema, change), back_change(schema, change))
-    return (schema, change)
+    def __init__(self, schema, change):
+        child = child_by(schema, change)
+        back = back_change(schema, change)
+        self.is_parent_wide = is_parent_wide(schema, change)
+        self.wide = schema if self.is_parent_wide else child
+        self.narrow = child if self.is_parent_wide else schema
+        self.change = back if self.is_parent_wide else change
+        self.back = change if self.is_parent_wide else back
 
 
 def _uncalled(change, told):
@@ -122,36 +123,34 @@ ROWS_LED = {
 }
 
 
-def _told_by(schema, change, rows):
+def _told_by(parent, change, child, rows):
     """Return the list of all that ROWS_LED tells of rows of the CHILD."""
-    child = child_by(schema, change)
     lead = ROWS_LED[change[0]]
     found = []
     for table in rows:
         columns = columns_of(child, table)
         for key, row in rows[table].items():
-            found.extend(lead(schema, change, table, key, dict(zip(columns, row))))
+            found.extend(lead(parent, change, table, key, dict(zip(columns, row))))
     return found
 
 
-def _led_back(schema, change, rows, tables):
+def _led_back(parent, change, child, rows, tables):
     """Return what rows of the CHILD tell of some tables of the PARENT."""
     found = {table: {} for table in tables}
-    for table, key, told in _told_by(schema, change, rows):
+    for table, key, told in _told_by(parent, change, child, rows):
         if table in found:
             # Two rows may tell one: what was parted stands in both.
             found[table][key] = {**found[table].get(key, {}), **told}
     made = {}
     for table in sorted(found):
-        columns = columns_of(schema, table)
+        columns = columns_of(parent, table)
         made[table] = {key: tuple([found[table][key][column] for column in columns]) for key in sorted(found[table])}
     return made
 
 
-def rows_narrowed(schema, change, wide, tables):
+def rows_narrowed(step, wide, tables):
     """Return what rows of the WIDE side tell of some tables of the narrow one."""
-    parent, step = wide_below(schema, change)
-    return _led_back(parent, step, wide, tables)
+    return _led_back(step.narrow, step.change, step.wide, wide, tables)
 
 
 def _overlaid(columns, column, rows, hidden):
@@ -160,31 +159,29 @@ def _overlaid(columns, column, rows, hidden):
     return {key: row[:at] + (hidden.get(key, row[at]),) + row[at + 1:] for key, row in rows.items()}
 
 
-def rows_full(schema, change, narrow, hidden, tables):
+def rows_full(step, narrow, hidden, tables):
     """Return what rows of the narrow side, and what is HIDDEN, tell of some tables of the WIDE one."""
-    parent, step = wide_below(schema, change)
-    child = child_by(parent, step)
-    made = _led_back(child, back_change(parent, step), narrow, tables)
-    table = step[1]
-    if step[0] in ("add column", "change column") and table in made:
-        made[table] = _overlaid(columns_of(child, table), step[2], made[table], hidden)
-    if step[0] == "add table" and table in made:
+    made = _led_back(step.wide, step.back, step.narrow, narrow, tables)
+    word, table = step.change[:2]
+    if word in ("add column", "change column"):
+        made[table] = _overlaid(columns_of(step.wide, table), step.change[2], made[table], hidden)
+    if word == "add table":
         made[table] = {key: hidden[key] for key in sorted(hidden)}
     return made
 
 
-def _plain(step, value):
+def _plain(change, value):
     """Return what a column has where nothing is HIDDEN, and now a value stands."""
-    return step[4] if step[0] == "add column" else led(step[4], led(step[5], value))
+    return change[4] if change[0] == "add column" else led(change[4], led(change[5], value))
 
 
-def hidden_of(schema, change, wide):
+def hidden_of(step, wide):
     """Return what is HIDDEN of rows of the WIDE side."""
-    parent, step = wide_below(schema, change)
-    if step[0] == "add table":
-        return {key: wide[step[1]][key] for key in sorted(wide[step[1]])}
-    if step[0] not in ("add column", "change column"):
+    word, table = step.change[:2]
+    if word == "add table":
+        return {key: wide[table][key] for key in sorted(wide[table])}
+    if word not in ("add column", "change column"):
         return {}
-    at = index_of(child_by(parent, step), step[1], step[2])
-    values = {key: wide[step[1]][key][at] for key in sorted(wide[step[1]])}
-    return {key: value for key, value in values.items() if value != _plain(step, value)}
+    at = index_of(step.wide, table, step.change[2])
+    values = {key: wide[table][key][at] for key in sorted(wide[table])}
+    return {key: value for key, value in values.items() if value != _plain(step.change, value)}

@@ -1,6 +1,6 @@
 """The WIDE and the narrow side of a CHANGE, and what the DATABASES of each tell of the other."""
 
-from everyversion.leading import hidden_of, is_parent_wide, rows_full, rows_narrowed, side_schema
+from everyversion.leading import Step, hidden_of, is_parent_wide, rows_full, rows_narrowed
 from everyversion.ways import tables_of
 
 
@@ -9,29 +9,34 @@ def wide_side(schema, change):
     return "parent" if is_parent_wide(schema, change) else "child"
 
 
-def _narrow_side(schema, change):
-    return "child" if is_parent_wide(schema, change) else "parent"
+def told_narrow(step, wide):
+    """Return the narrow DATABASE that a WIDE one tells."""
+    return rows_narrowed(step, wide, tables_of(step.narrow))
+
+
+def told_wide(step, narrow, hidden):
+    """Return the WIDE DATABASE that a narrow one and what is HIDDEN tell."""
+    return rows_full(step, narrow, hidden, tables_of(step.wide))
 
 
 def narrowed(schema, change, wide):
     """Return the DATABASE of the narrow side that a WIDE one tells."""
-    tables = tables_of(side_schema(schema, change, _narrow_side(schema, change)))
-    return rows_narrowed(schema, change, wide, tables)
+    return told_narrow(Step(schema, change), wide)
 
 
 def hidden(schema, change, wide):
     """Return what is HIDDEN of a WIDE DATABASE."""
-    return hidden_of(schema, change, wide)
+    return hidden_of(Step(schema, change), wide)
 
 
 def full(schema, change, narrow, hidden):
     """Return the WIDE DATABASE that a narrow one and what is HIDDEN tell."""
-    tables = tables_of(side_schema(schema, change, wide_side(schema, change)))
-    return rows_full(schema, change, narrow, hidden, tables)
+    return told_wide(Step(schema, change), narrow, hidden)
 
 
 def agree(schema, change, parent, child):
     """Whether two DATABASES AGREE: whether the WIDE one NARROWED is the narrow one."""
-    if is_parent_wide(schema, change):
-        return narrowed(schema, change, parent) == child
-    return narrowed(schema, change, child) == parent
+    step = Step(schema, change)
+    if step.is_parent_wide:
+        return told_narrow(step, parent) == child
+    return told_narrow(step, child) == parent

@@ -3,8 +3,13 @@
 import random
 
 from everyversion.changes import CHANGES, child_by
+from everyversion.copies import first_copies, spread
 from everyversion.databases import broken
+from everyversion.explaining import turned_into
 from everyversion.refusals import refusal
+from everyversion.running import run, would_run
+from everyversion.store import store_of
+from everyversion.trees import schema_at
 from everyversion.ways import columns_of, sort_of, tables_of
 from everyversion.worths import holds_in
 from samples import ALWAYS
@@ -12,6 +17,7 @@ from samples import ALWAYS
 KEY = ("key",)
 TABLES = "abcdefgh"
 COLUMNS = "mnopqrst"
+HIDING = ("add column", "drop column", "change column", "add table")
 
 
 class Life:
@@ -220,6 +226,10 @@ class Life:
         made = {}
         for table in self.random.sample(tables_of(schema), len(schema[0])):
             made[table] = {key: self.right_row(schema, table, key, keys) for key in keys[table]}
+        return self.repaired(schema, made)
+
+    def repaired(self, schema, made):
+        """Return a DATABASE without rows that keep it from being RIGHT."""
         found = broken(schema, made)
         while found:
             if found[0][0] in ("ref", "check"):
@@ -228,6 +238,15 @@ class Life:
                 made[self.one([table for table in found[0][1:3] if found[0][3] in made[table]])].pop(found[0][3])
             found = broken(schema, made)
         return made
+
+    def near(self, schema, database):
+        """Return a RIGHT one that has most rows of another one, and some others."""
+        made = {table: dict(rows) for table, rows in database.items()}
+        keys = {table: sorted(rows) for table, rows in made.items()}
+        for table in made:
+            for key in [key for key in keys[table] if self.chance(0.3)] + [self.random.randint(-1, 6)]:
+                made[table][key] = self.right_row(schema, table, key, keys)
+        return self.repaired(schema, made)
 
     def worth(self, schema, table, depth=1):
         """Return an EXPRESSION that may have a via."""
@@ -276,3 +295,48 @@ class Life:
 
     def transaction(self, schema):
         return tuple(self.statement(schema) for _ in range(self.random.randint(0, 4) if schema[0] else 0))
+
+    def taken_transaction(self, schema, database):
+        """Return one that changes a DATABASE, if such was found, and is not REFUSED."""
+        for _ in range(6):
+            transaction = self.transaction(schema)
+            if would_run(schema, database, transaction) and run(schema, database, transaction)[1] != database:
+                return transaction
+        return turned_into(schema, database, self.one([self.database(schema), self.near(schema, database)]))
+
+    # TREES, LIVE versions and COPIES.
+
+    def tree(self, most=6):
+        """Return one with some edges, of which several may lead from one version."""
+        schemas = [self.schema()]
+        edges = []
+        for _ in range(self.random.randint(most // 2, most)):
+            version = self.random.randrange(len(schemas))
+            change = self.taken(schemas[version], self.one([*CHANGES, *HIDING, *HIDING]))
+            if change is not None:
+                edges.append((version, change))
+                schemas.append(child_by(schemas[version], change))
+        return (schemas[0], tuple(edges))
+
+    def live(self, tree):
+        """Return versions that hang together."""
+        found = [self.random.randint(0, len(tree[1]))]
+        near = ["any"]
+        while near and self.chance(0.9):
+            found = found + [self.one(near)] if near != ["any"] else found
+            near = [far for far in range(len(tree[1]) + 1) if far not in found and any(
+                far == tree[1][one - 1][0] if one > far else one == tree[1][far - 1][0] for one in found)]
+        return tuple(sorted(found))
+
+    def copies(self, tree, live):
+        """Return some that several versions have written."""
+        version = self.one(live)
+        copies = spread(tree, live, first_copies(tree, live), version, self.database(schema_at(tree, version)))
+        for version in self.random.sample(live, len(live)):
+            copies = spread(tree, live, copies, version, self.near(schema_at(tree, version), copies[version]))
+        return copies
+
+    def store(self, most=6):
+        tree = self.tree(most)
+        live = self.live(tree)
+        return store_of(tree, live, self.one(live), self.copies(tree, live))

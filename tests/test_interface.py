@@ -36,6 +36,18 @@ INTERFACE = {
                 "back_change(schema,change)",
     "sides": "wide_side(schema,change) narrowed(schema,change,wide) full(schema,change,narrow,hidden) "
              "hidden(schema,change,wide) agree(schema,change,parent,child)",
+    "fitting": "fits(schema,change,narrow,thing) fitted(schema,change,hidden,narrow) "
+               "carried(schema,change,side,new,old) first_carried(schema,change,side,new)",
+    "trees": "is_tree(thing) is_live(tree,thing) is_far_wide(tree,near,far) schemas_of(tree) outwards(tree,live,version) "
+             "schema_at(tree,version) neighbours(tree,live,version) edge_between(tree,one,other) path(tree,live,one,other) "
+             "ends_of(tree,live)",
+    "copies": "are_copies(tree,live,thing) first_copies(tree,live) spread(tree,live,copies,version,database) "
+              "carried_on(tree,near,far,new,old) done(tree,live,copies,version,transaction) moved_versions(one,other) "
+              "grown(tree,live,copies,version,change) taken_away(tree,live,copies,version)",
+    "store": "is_store(thing) view(store,version) copies_of(store) store_of(tree,live,home,copies) "
+             "with_home(store,version) kept_many(store)",
+    "storedeeds": "do(store,version,transaction) grow(store,version,change) take_away(store,version) "
+                  "is_beside(store,copies) edges_touched(one,other)",
 }
 
 

@@ -9,7 +9,8 @@ FOLDER = os.path.join(os.path.dirname(os.path.dirname(os.path.abspath(__file__))
 
 # The modules in the order in which each may use those above it.
 ORDER = ["errors", "grammar", "forms", "ways", "words", "changes", "terms", "reader", "shower", "worths", "databases",
-         "queries", "running", "explaining", "bothways", "hindrances", "refusals", "leading", "sides"]
+         "queries", "running", "explaining", "bothways", "hindrances", "refusals", "leading", "sides",
+         "fitting", "trees", "copies", "store", "storedeeds"]
 
 BUILTINS = """len range enumerate zip min max sum abs sorted reversed int str bool list tuple dict set isinstance any all
     ValueError""".split()

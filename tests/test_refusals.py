@@ -144,6 +144,11 @@ class Refusals(Checks):
         self.refuses(PARENT, ("join columns", "v", "x", "x", 6, "y"), clash("x"))
         self.refuses(PARENT, ("join columns", "v", "x", "x", 6, "a"), clash("a"), clash("x"))
         self.refuses(PARENT, ("join columns", "v", "x", "x", 6, "x"), clash("x"))
+        # A column may have the name of its table.
+        named = schema({"t": table({"a": ("below", 12), "b": ("below", 12), "t": INT})})
+        for change in [("call column", "t", "a", "t"), ("split column", "t", "a", 2, "y", "t"), ("split column", "t", "a", 2, "t", "y"),
+                       ("join columns", "t", "a", "b", 12, "t")]:
+            self.refuses(named, change, clash("t"))
         put = schema({"p": table({"a": INT, "b": INT, "c": INT}), "q": table({"b": INT, "c": INT, "d": INT})}, ("same", "p", "q"))
         self.refuses(put, ("put together", "p", "q"), clash("b"), clash("c"))
         self.refuses(put, ("put together", "p", "p"), clash("a"), clash("b"), clash("c"), ("not same", ("p", "p")), ("rule", ("same", "p", "q")))
