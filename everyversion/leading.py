@@ -63,7 +63,8 @@ def _row_led(schema, change, table, key, told):
     if table != change[1]:
         return [(table, key, told)]
     lead = COLUMNS_LED[change[0]]
-    return [(table, key, {**told, **lead(change, told)})]
+    more = lead(change, told)
+    return [(table, key, {**told, **more})]
 
 
 def _row_as_it_is(schema, change, table, key, told):
@@ -77,8 +78,8 @@ def _row_uncalled(schema, change, table, key, told):
 def _row_moved_back(schema, change, table, key, told):
     _, moved, many = change
     leads = [column for column in told if refers(sort_of(schema, table, column), moved) and told[column] is not None]
-    at = key - many if table == moved else key
-    return [(table, at, {**told, **{column: told[column] - many for column in leads}})]
+    more = {column: told[column] - many for column in leads}
+    return [(table, key - many if table == moved else key, {**told, **more})]
 
 
 def _row_unsplit(schema, change, table, key, told):

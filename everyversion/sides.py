@@ -14,9 +14,9 @@ def told_narrow(step, wide):
     return rows_narrowed(step, wide, tables_of(step.narrow))
 
 
-def told_wide(step, narrow, hidden):
-    """Return the WIDE DATABASE that a narrow one and what is HIDDEN tell."""
-    return rows_full(step, narrow, hidden, tables_of(step.wide))
+def told_wide(step, narrow, beside):
+    """Return the WIDE DATABASE that a narrow one and what is HIDDEN beside it tell."""
+    return rows_full(step, narrow, beside, tables_of(step.wide))
 
 
 def narrowed(schema, change, wide):

@@ -8,6 +8,7 @@ from everyversion.databases import broken
 from everyversion.explaining import turned_into
 from everyversion.refusals import refusal
 from everyversion.running import run, would_run
+from everyversion.sides import wide_side
 from everyversion.store import store_of
 from everyversion.trees import schema_at
 from everyversion.ways import columns_of, sort_of, tables_of
@@ -340,3 +341,19 @@ class Life:
         tree = self.tree(most)
         live = self.live(tree)
         return store_of(tree, live, self.one(live), self.copies(tree, live))
+
+
+def taken_changes(many, words):
+    """Tell (life, SCHEMA, CHANGE that it takes) for as many seeds, so far as such a CHANGE of these words was found."""
+    for seed in range(many):
+        life = Life(seed)
+        schema = life.schema()
+        change = life.taken(schema, life.one(words))
+        if change is not None:
+            yield life, schema, change
+
+
+def sides_of(schema, change):
+    """Return the SCHEMAS of the WIDE and of the narrow side."""
+    child = child_by(schema, change)
+    return (schema, child) if wide_side(schema, change) == "parent" else (child, schema)

@@ -6,10 +6,10 @@ from everyversion.changes import CHANGES, child_by, is_change, named_below, name
 from everyversion.databases import is_right
 from everyversion.forms import is_schema
 from everyversion.refusals import back_change, refusal
-from lives import Life
+from lives import taken_changes
 from samples import ALWAYS, Checks
 
-INT, A, B, KEY = ("int",), ("col", "a"), ("col", "b"), ("key",)
+INT, A, KEY = ("int",), ("col", "a"), ("key",)
 FEW = ("<", A, ("num", 5))
 T = ((("a", INT), ("b", ("below", 12)), ("m", ("may", "u"))), ALWAYS)
 U = ((("c", ("below", 4)), ("d", ("below", 5))), ("none", ("col", "c")))
@@ -59,12 +59,7 @@ class Back(Checks):
     def test_alike(self):
         """The change that leads back is taken, and what it leads to has the same tables, and the same RIGHT DATABASES."""
         words, checks = set(), 0
-        for seed in range(600):
-            life = Life(seed)
-            parent = life.schema()
-            change = life.taken(parent, life.one(CHANGES))
-            if change is None:
-                continue
+        for life, parent, change in taken_changes(600, CHANGES):
             words.add(change[0])
             child = child_by(parent, change)
             back = self.told(back_change, parent, change)

@@ -8,7 +8,7 @@ from everyversion.fitting import carried, first_carried, fits, fitted
 from everyversion.forms import is_database
 from everyversion.refusals import refusal
 from everyversion.sides import agree, full, hidden, narrowed, wide_side
-from lives import Life
+from lives import sides_of, taken_changes
 from samples import ALWAYS, ANYTHING, News, spoiled, turned_about
 
 INT, A, KEY = ("int",), ("col", "a"), ("key",)
@@ -95,14 +95,8 @@ class Fits(News):
     def test_at_random(self):
         """Of all that is nearly what is HIDDEN, what fits is HIDDEN of a RIGHT one that AGREES."""
         yes, no = 0, 0
-        for seed in range(250):
-            life = Life(seed)
-            parent = life.schema()
-            change = life.taken(parent, life.one(["add column", "drop column", "change column", "add table", "drop table", "call table"]))
-            if change is None:
-                continue
-            child = child_by(parent, change)
-            broad, slim = (parent, child) if wide_side(parent, change) == "parent" else (child, parent)
+        for life, parent, change in taken_changes(250, ["add column", "drop column", "change column", "add table", "drop table", "call table"]):
+            broad, slim = sides_of(parent, change)
             wide, other = life.database(broad), life.database(slim)
             narrow, beside = narrowed(parent, change, wide), hidden(parent, change, wide)
             self.so(fits, parent, change, narrow, beside)
@@ -169,14 +163,8 @@ class Fitted(News):
     def test_all_that_can_be_kept(self):
         """What fits is kept, and no entry that is gone could be there besides."""
         kept, gone = 0, 0
-        for seed in range(400):
-            life = Life(seed)
-            parent = life.schema()
-            change = life.taken(parent, life.one(["add column", "drop column", "change column", "add table", "drop table", "add table"]))
-            if change is None:
-                continue
-            child = child_by(parent, change)
-            broad, slim = (parent, child) if wide_side(parent, change) == "parent" else (child, parent)
+        for life, parent, change in taken_changes(400, ["add column", "drop column", "change column", "add table", "drop table", "add table"]):
+            broad, slim = sides_of(parent, change)
             beside, narrow = hidden(parent, change, life.database(broad)), life.database(slim)
             left = self.new(fitted, parent, change, turned_about(beside), turned_about(narrow))
             self.so(fits, parent, change, narrow, left)
@@ -231,12 +219,7 @@ class Carried(News):
 
     def test_at_random(self):
         words, others = set(), 0
-        for seed in range(500):
-            life = Life(seed)
-            parent = life.schema()
-            change = life.taken(parent, life.one(CHANGES))
-            if change is None:
-                continue
+        for life, parent, change in taken_changes(500, CHANGES):
             words.add(change[0])
             child = child_by(parent, change)
             sides = {"parent": parent, "child": child}

@@ -7,10 +7,10 @@ from everyversion.databases import is_right
 from everyversion.forms import is_database, is_schema
 from everyversion.refusals import refusal
 from everyversion.sides import agree, full, hidden, narrowed, wide_side
-from lives import Life
+from lives import sides_of, taken_changes
 from samples import ALWAYS, News, turned_about
 
-INT, A, B, KEY = ("int",), ("col", "a"), ("col", "b"), ("key",)
+INT, A, KEY = ("int",), ("col", "a"), ("key",)
 P = ((("a", INT), ("b", ("below", 12)), ("m", ("may", "p"))), ALWAYS)
 Q = ((("n", ("may", "p")), ("r", ("ref", "p")), ("s", ("ref", "q"))), ALWAYS)
 SCHEMA = ((("p", P), ("q", Q)), ())
@@ -158,16 +158,9 @@ class Sides(News):
 
     def test_at_random(self):
         words, several = set(), 0
-        for seed in range(500):
-            life = Life(seed)
-            parent = life.schema()
-            change = life.taken(parent, life.one(CHANGES))
-            if change is None:
-                continue
+        for life, parent, change in taken_changes(500, CHANGES):
             words.add(change[0])
-            child = child_by(parent, change)
-            is_wide = wide_side(parent, change) == "parent"
-            broad, slim = (parent, child) if is_wide else (child, parent)
+            broad, slim = sides_of(parent, change)
             wide = life.database(broad)
             narrow = self.new(narrowed, parent, change, turned_about(wide))
             self.assertTrue(is_database(slim, narrow) and is_right(slim, narrow))
@@ -179,7 +172,7 @@ class Sides(News):
             wide = full(parent, change, narrow, {})
             self.assertTrue(is_database(broad, wide) and is_right(broad, wide))
             self.assertEqual((narrowed(parent, change, wide), hidden(parent, change, wide)), (narrow, {}))
-            self.so(agree, parent, change, *((wide, narrow) if is_wide else (narrow, wide)))
+            self.so(agree, parent, change, *((wide, narrow) if wide_side(parent, change) == "parent" else (narrow, wide)))
         self.assertEqual(words, set(CHANGES))
         self.assertGreater(several, 80)
 
