@@ -18,10 +18,15 @@ def _is_entry(step, thing):
     return False
 
 
+def may_be_hidden(step, thing):
+    """Whether any value has the form of what is HIDDEN, whatever narrow DATABASE it FITS."""
+    return isinstance(thing, dict) and all([is_integer(key) and _is_entry(step, thing[key]) for key in thing])
+
+
 def fits(schema, change, narrow, thing):
     """Whether any value is a HIDDEN dict that FITS a narrow DATABASE."""
     step = Step(schema, change)
-    if not isinstance(thing, dict) or not all([is_integer(key) and _is_entry(step, thing[key]) for key in thing]):
+    if not may_be_hidden(step, thing):
         return False
     wide = told_wide(step, narrow, thing)
     return is_right(step.wide, wide) and told_narrow(step, wide) == narrow and hidden_of(step, wide) == thing

@@ -193,7 +193,7 @@ def fits_row(schema, table, row):
     return all([fits_sort(sort, x) for sort, x in zip(sorts, row)])
 
 
-def _are_rows(schema, table, thing):
+def are_rows(schema, table, thing):
     """Whether thing is a dict from KEYS to ROWS that FIT."""
     return isinstance(thing, dict) and all([is_integer(x) and fits_row(schema, table, thing[x]) for x in thing])
 
@@ -203,7 +203,7 @@ def is_database(schema, thing):
     names = [pair[0] for pair in schema[0]]
     if not isinstance(thing, dict) or len(thing) != len(names):
         return False
-    return all([name in thing and _are_rows(schema, name, thing[name]) for name in names])
+    return all([name in thing and are_rows(schema, name, thing[name]) for name in names])
 
 
 def _is_at(schema, table, thing):

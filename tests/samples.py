@@ -68,6 +68,8 @@ def spoiled(thing):
             found.extend([{**rest, other: thing[key]} for other in spoiled(key) if other != key])
             found.extend([{**rest, key: other} for other in spoiled(thing[key])])
         return found
+    if isinstance(thing, list):
+        return [tuple(thing), thing + [None]] + [list(other) for other in spoiled(tuple(thing)) if isinstance(other, tuple)]
     found = [list(thing), thing + (None,), thing + ("a",), {}]
     if thing and isinstance(thing[0], str):
         # What begins with a word has just so many items: one is left out, or stands twice.

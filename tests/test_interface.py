@@ -46,6 +46,25 @@ INTERFACE = {
               "grown(tree,live,copies,version,change) taken_away(tree,live,copies,version)",
     "store": "is_store(thing) view(store,version) copies_of(store) store_of(tree,live,home,copies) "
              "with_home(store,version) kept_many(store)",
+    "pieces": "piece_tables(schema,change) stands_at(schema,change,side,piece) touched_tables(schema,change,side) "
+              "pieces_in(schema,change,side,database) part_of_pieces(schema,change,side,database,pieces) "
+              "without_pieces(schema,change,side,database,pieces) joined_part(database,part) "
+              "led_part(schema,change,side,part,hidden) hidden_of_part(schema,change,part) "
+              "hidden_in(schema,change,hidden,pieces)",
+    "moving": "moving_of(store,goal,moved) begun(store,version) stepped(moving,piece) turned_about(moving) "
+              "grow_amid(moving,version,change) take_away_amid(moving,version) store_told(moving) ended(moving) "
+              "is_moving(thing) view_amid(moving,version) pieces_left(moving) do_amid(moving,version,transaction)",
+    "cells": "cells_of(kept) kept_by(cells)",
+    "logs": "written(disk,writes) torn(disk,phases,index,lot) writes_between(one,other) phases_of(one,other) is_clean(disk)",
+    "mending": "mending(disk) phases_to(disk,kept) mended(disk) lies_between(one,other,thing) told_by(one,other,disk) "
+               "kept_on(disk) rows_written(phases)",
+    "deeds": "is_line(thing) is_course(thing)",
+    "meanings": "first_meaning(schema) meaning_of(kept) meant(meaning,line)",
+    "sidebyside": "kept_behind(kept,line) disk_behind(disk,line,cut) run_disk(schema,course) happened_in(tolds) "
+                  "run_meaning(schema,course,happened) first_disk(schema) first_apart(schema,course)",
+    "histories": "history_of(schema,course,happened,version) schema_of_version(schema,course,happened,version) "
+                 "replayed(schema,history) is_lived(schema,thing)",
+    "desk": "Desk(text)",
     "storedeeds": "do(store,version,transaction) grow(store,version,change) take_away(store,version) "
                   "is_beside(store,copies) edges_touched(one,other)",
 }
@@ -63,6 +82,18 @@ class Interface(unittest.TestCase):
                 parameters = inspect.signature(thing).parameters.values()
                 self.assertEqual(",".join(one.name for one in parameters), arguments, told)
                 self.assertTrue(all(one.default is one.empty for one in parameters), told)
+
+    def test_desk(self):
+        desk = importlib.import_module("everyversion.desk").Desk
+        for told in ["execute(self,line)", "kept(self)", "disk(self)", "twin(self)", "__eq__(self,other)"]:
+            word, arguments = told.rstrip(")").split("(")
+            self.assertIn(word, vars(desk))
+            self.assertEqual(",".join(inspect.signature(vars(desk)[word]).parameters), arguments)
+
+    def test_all_modules_are_there(self):
+        folder = os.path.dirname(importlib.import_module("everyversion.errors").__file__)
+        self.assertLessEqual(set(INTERFACE), {name[:-3] for name in os.listdir(folder)})
+        self.assertEqual(len(INTERFACE), 29)
 
     def test_init_is_empty(self):
         folder = os.path.dirname(importlib.import_module("everyversion.errors").__file__)
