@@ -31,7 +31,7 @@ def history_of(schema, course, happened, version):
         if first is None:
             first = after[2].get(version)
         before = after
-    return None if first is None else (copied(first), tuple(rows))
+    return None if first is None else (first, tuple(rows))
 
 
 def schema_of_version(schema, course, happened, version):

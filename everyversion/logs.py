@@ -59,4 +59,5 @@ def torn(disk, phases, index, lot):
 
 def torn_behind(disk, phases, many):
     """Return the DISK when power fails behind so many WRITES of a DEED, or behind all if there are no more."""
-    return written(disk, writes_of(phases)[:many])
+    writes = writes_of(phases)
+    return written(disk, writes[:min(many, len(writes))])

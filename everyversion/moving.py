@@ -22,8 +22,8 @@ class Between:
         self.edge = edge
         self.here = side
         self.there = other_side(side)
-        self.parent = schema_at(tree, version)
-        self.way = change
+        self.schema = schema_at(tree, version)
+        self.change = change
         self.is_goal_wide = is_far_wide(tree, home, goal)
 
 
@@ -31,8 +31,8 @@ def pieces_between(tree, home, goal, copies):
     """Return the ascending tuple of the PIECES of a home and its goal, of which the copies are told."""
     between = Between(tree, home, goal)
     if between.is_goal_wide:
-        return pieces_in(between.parent, between.way, between.there, copies[goal])
-    return pieces_in(between.parent, between.way, between.here, copies[home])
+        return pieces_in(between.schema, between.change, between.there, copies[goal])
+    return pieces_in(between.schema, between.change, between.here, copies[home])
 
 
 def _pieces_of(store, goal):
@@ -66,7 +66,7 @@ def moving_of(store, goal, moved):
     """Return the MOVING STORE of a STORE, some PIECES of which have moved to a goal."""
     tree, live, home, database, hiddens = store
     between = Between(tree, home, goal)
-    schema, change = between.parent, between.way
+    schema, change = between.schema, between.change
     left = without_pieces(schema, change, between.here, database, moved)
     laid = part_of_pieces(schema, change, between.there, view(store, goal), moved)
     if between.is_goal_wide:
@@ -83,25 +83,25 @@ def store_told(moving):
     tree, live, home, goal, _, left, laid, hiddens = moving
     between = Between(tree, home, goal)
     there = hiddens[between.edge]
-    database = joined_part(left, led_part(between.parent, between.way, between.there, laid, there))
-    entries = {**there, **hidden_of_part(between.parent, between.way, laid)} if between.is_goal_wide else None
+    database = joined_part(left, led_part(between.schema, between.change, between.there, laid, there))
+    entries = {**there, **hidden_of_part(between.schema, between.change, laid)} if between.is_goal_wide else None
     return (tree, live, home, database, _with_entries(hiddens, between.edge, entries))
 
 
 def as_store(kept):
     """Return the STORE that a STORE or MOVING STORE tells."""
-    return store_told(kept) if is_amid(kept) else copied_kept(kept)
+    return store_told(kept) if is_amid(kept) else kept
 
 
 def _is_laid(between, schema, thing):
     """Whether any value is a dict from the touched tables of the goal to rows that FIT, of whole PIECES."""
-    tables = touched_tables(between.parent, between.way, between.there)
+    tables = touched_tables(between.schema, between.change, between.there)
     if not isinstance(thing, dict) or len(thing) != len(tables):
         return False
     if not all([table in thing and are_rows(schema, table, thing[table]) for table in tables]):
         return False
     # A row that is parted stands in both tables; one that is split stands in one of them.
-    is_parted = (between.way[0], between.there) in (("part table", "child"), ("put together", "parent"))
+    is_parted = (between.change[0], between.there) in (("part table", "child"), ("put together", "parent"))
     return not is_parted or sorted(thing[tables[0]]) == sorted(thing[tables[1]])
 
 
@@ -111,7 +111,7 @@ def _are_hiddens(between, thing):
         return False
     if not all([isinstance(told, dict) and all([is_integer(key) for key in told]) for told in thing.values()]):
         return False
-    return may_be_hidden(Step(between.parent, between.way), thing[between.edge])
+    return may_be_hidden(Step(between.schema, between.change), thing[between.edge])
 
 
 def _is_formed(thing):

@@ -129,7 +129,7 @@ def first_apart(schema, course):
     steps = _disk_steps(schema, course)
     happened = happened_in([told for told, _ in steps])
     beside = meaning_steps(schema, course, happened)
-    for index, ((told, disk), (said, meaning)) in enumerate(zip(steps, beside)):
-        if told != said or meaning_of(kept_on(disk)) != meaning:
+    for index, (told, disk) in enumerate(steps):
+        if (told, meaning_of(kept_on(disk))) != beside[index]:
             return index
     return None

@@ -146,7 +146,7 @@ class Meanings(News):
     def test_side_by_side(self):
         """All that a DISK tells is what the plain MEANING tells, whatever is cut."""
         cut, done, moved, words, told_words = 0, 0, 0, set(), set()
-        for seed in range(150):
+        for seed in range(120):
             life, schema, course = course_at(seed, 30)
             self.assertIsNone(self.told(first_apart, schema, course))
             tolds, disk = self.new(run_disk, schema, course)
